@@ -1,0 +1,1 @@
+"""Exact slice calculator: which indices a slice selects, without walking through them."""
