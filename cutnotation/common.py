@@ -2,6 +2,11 @@
 
 from cutnotation.progressions import Progression, highest, lowest, turned
 
+EMPTY_OPERAND = 1
+APART = 2
+DIFFERENT_RESIDUES = 3
+OUT_OF_REACH = 4
+
 
 def gcd(a, b):
     larger = a
@@ -53,3 +58,27 @@ def intersection(p, q):
     bound = min(highest(p), highest(q))
     upward = Progression((bound - least) // stride + 1, least, stride)
     return turned(upward) if p.step < 0 else upward
+
+
+def covers(whole, part):
+    return intersection(whole, part).count == part.count
+
+
+# A single element goes on nowhere, though its canonical form has a step.
+def spacing(progression):
+    return abs(progression.step) if progression.count > 1 else 0
+
+
+# Two single elements are equal or apart, so the divisor is above 0 where residues are compared. A single element that
+# is not apart from the other operand and has its residue lies in it, so both have a step where they meet out of reach.
+def disjointness(p, q):
+    if p.count == 0 or q.count == 0:
+        return [EMPTY_OPERAND]
+    if highest(p) < lowest(q) or highest(q) < lowest(p):
+        return [APART]
+    divisor = gcd(spacing(p), spacing(q))
+    p_residue = lowest(p) % divisor
+    q_residue = lowest(q) % divisor
+    if p_residue != q_residue:
+        return [DIFFERENT_RESIDUES, divisor, p_residue, q_residue]
+    return [OUT_OF_REACH, least_meeting(p, q, divisor)]

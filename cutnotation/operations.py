@@ -1,7 +1,9 @@
 """The object that the calls work on, and its operations; each gives back the numbers of its answer."""
 
-from cutnotation.common import intersection
-from cutnotation.progressions import Progression, indices, numbers_of, part_of, position_of, turned
+from cutnotation.combined import difference_of, union_of
+from cutnotation.common import covers, disjointness, intersection
+from cutnotation.notation import shortest_text
+from cutnotation.progressions import Progression, indices, lowest, numbers_of, part_of, position_of, turned
 from cutnotation.syntax import read_slice
 
 SLOTS = 8
@@ -11,6 +13,8 @@ NOT_A_SLOT = 10
 BAD_LENGTH = 11
 NO_POSITION = 12
 NOT_CONTAINED = 13
+NO_PROGRESSION = 14
+NO_SLICE = 15
 
 
 class Calculator:
@@ -95,3 +99,60 @@ def intersect(calculator, r, p, q):
     if not are_slots([r, p, q]):
         return refusal(NOT_A_SLOT)
     return store(calculator, r, intersection(calculator.slots[p], calculator.slots[q]))
+
+
+def is_subset(calculator, p, q):
+    if not are_slots([p, q]):
+        return refusal(NOT_A_SLOT)
+    return [1 if covers(calculator.slots[q], calculator.slots[p]) else 0]
+
+
+def same_elements(calculator, p, q):
+    if not are_slots([p, q]):
+        return refusal(NOT_A_SLOT)
+    one = calculator.slots[p]
+    other = calculator.slots[q]
+    return [1 if one.count == other.count and covers(one, other) else 0]
+
+
+def first_common(calculator, p, q):
+    if not are_slots([p, q]):
+        return refusal(NOT_A_SLOT)
+    one = calculator.slots[p]
+    other = calculator.slots[q]
+    shared = intersection(one, other)
+    if shared.count > 0:
+        return [1, lowest(shared)]
+    return [0] + disjointness(one, other)
+
+
+def store_progression(calculator, r, progression):
+    if progression is None:
+        return refusal(NO_PROGRESSION)
+    return store(calculator, r, progression)
+
+
+def union(calculator, r, p, q):
+    if not are_slots([r, p, q]):
+        return refusal(NOT_A_SLOT)
+    return store_progression(calculator, r, union_of(calculator.slots[p], calculator.slots[q]))
+
+
+def difference(calculator, r, p, q):
+    if not are_slots([r, p, q]):
+        return refusal(NOT_A_SLOT)
+    return store_progression(calculator, r, difference_of(calculator.slots[p], calculator.slots[q]))
+
+
+def find_slice(calculator, p, q):
+    if not are_slots([p, q]):
+        return refusal(NOT_A_SLOT)
+    text = shortest_text(calculator.slots[p], calculator.slots[q])
+    if text is None:
+        return refusal(NO_SLICE)
+    return [len(text)] + [ord(sign) for sign in text]
+
+
+def check_syntax(text):
+    reading = read_slice(text)
+    return [reading.code, reading.place]

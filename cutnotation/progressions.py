@@ -51,6 +51,18 @@ def turned(progression):
     return Progression(progression.count, last_of(progression), -progression.step)
 
 
+def upward(progression):
+    return turned(progression) if progression.step < 0 else progression
+
+
+# No other progression can have this many members from first to last; where the gaps would be no whole numbers, none
+# can, and this one misses last.
+def evenly_spread(count, first, last):
+    if count < 2:
+        return Progression(count, first, 1)
+    return Progression(count, first, (last - first) // (count - 1))
+
+
 def position_of(progression, x):
     distance = x - progression.first
     if distance % progression.step != 0:

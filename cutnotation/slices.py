@@ -1,10 +1,13 @@
 """The package's one entry: a list of calls on a new object, and the list of their answers."""
 
-from cutnotation.operations import Calculator, assign, cut, element_at, get, index_of, intersect, reverse, set_length
+from cutnotation.operations import (
+    Calculator, assign, check_syntax, cut, difference, element_at, find_slice, first_common, get, index_of, intersect,
+    is_subset, reverse, same_elements, set_length, union,
+)
 
 # How many whole numbers a call has, by its operation number; its text, if it has one, comes behind them.
-WHOLE_NUMBERS = (1, 1, 2, 2, 1, 2, 2, 3)
-WITH_TEXT = (1, 2)
+WHOLE_NUMBERS = (1, 1, 2, 2, 1, 2, 2, 3, 2, 2, 2, 3, 3, 2, 0)
+WITH_TEXT = (1, 2, 14)
 
 
 class UnknownCall(ValueError):
@@ -47,7 +50,21 @@ def answer_to(calculator, call):
         return element_at(calculator, given[0], given[1])
     if call.operation == 6:
         return index_of(calculator, given[0], given[1])
-    return intersect(calculator, given[0], given[1], given[2])
+    if call.operation == 7:
+        return intersect(calculator, given[0], given[1], given[2])
+    if call.operation == 8:
+        return is_subset(calculator, given[0], given[1])
+    if call.operation == 9:
+        return same_elements(calculator, given[0], given[1])
+    if call.operation == 10:
+        return first_common(calculator, given[0], given[1])
+    if call.operation == 11:
+        return union(calculator, given[0], given[1], given[2])
+    if call.operation == 12:
+        return difference(calculator, given[0], given[1], given[2])
+    if call.operation == 13:
+        return find_slice(calculator, given[0], given[1])
+    return check_syntax(call.text)
 
 
 def answers(calls):

@@ -6,7 +6,8 @@ LIMIT = 10 ** 18
 EMPTY = [0, 0, 1]
 ALL_REGISTERS = range(8)
 NOT_REGISTERS = (-1, 8, -LIMIT, LIMIT)
-ANSWER_LENGTHS = {0: 1, 1: 3, 2: 3, 3: 3, 4: 3, 5: 1, 6: 1, 7: 3}
+ANSWER_LENGTHS = {0: 1, 1: 3, 2: 3, 3: 3, 4: 3, 5: 1, 6: 1, 7: 3, 8: 1, 9: 1, 11: 3, 12: 3, 14: 2}
+REASON_LENGTHS = {1: 2, 2: 2, 3: 5, 4: 3}
 
 
 def with_text(numbers, text):
@@ -46,6 +47,34 @@ def intersect(r, p, q):
     return [7, r, p, q]
 
 
+def is_subset(p, q):
+    return [8, p, q]
+
+
+def same_elements(p, q):
+    return [9, p, q]
+
+
+def first_common(p, q):
+    return [10, p, q]
+
+
+def union(r, p, q):
+    return [11, r, p, q]
+
+
+def difference(r, p, q):
+    return [12, r, p, q]
+
+
+def find_slice(p, q):
+    return [13, p, q]
+
+
+def check_syntax(text):
+    return with_text([14], text)
+
+
 def get_all():
     return [get(register) for register in ALL_REGISTERS]
 
@@ -70,14 +99,25 @@ def split_answers(calls, given):
     for call in calls:
         length = given[at]
         answer = given[at + 1:at + 1 + length]
-        wanted = 1 if answer[0] < 0 else ANSWER_LENGTHS[call[0]]
-        if length != wanted or len(answer) != length:
+        if length != answer_length(call[0], answer) or len(answer) != length:
             raise AssertionError(f"the answer to {call} is {answer}, told as {length} numbers")
         split.append(answer)
         at += 1 + length
     if at != len(given):
         raise AssertionError("there are more answers than calls")
     return split
+
+
+def answer_length(operation, answer):
+    if operation == 14 and answer[0] < 0:
+        raise AssertionError("check_syntax has no errors")
+    if answer[0] < 0:
+        return 1
+    if operation == 10:
+        return REASON_LENGTHS[answer[1]] if answer[0] == 0 else 2
+    if operation == 13:
+        return 1 + answer[0]
+    return ANSWER_LENGTHS[operation]
 
 
 def run_groups(setup, groups):
@@ -116,6 +156,12 @@ def canonical(indices):
     return [count, indices[0], indices[1] - indices[0] if count > 1 else 1]
 
 
+def as_progression(indices):
+    """The answer that stores these indices in their order: three numbers, or -14 where the gaps differ."""
+    gaps = {after - before for before, after in zip(indices, indices[1:])}
+    return canonical(indices) if len(gaps) <= 1 else [-14]
+
+
 def notation(start=None, stop=None, step=None):
     parts = ["" if part is None else str(part) for part in (start, stop, step)]
     return ":".join(parts[:2] if step is None else parts)
@@ -126,6 +172,16 @@ def notation_of(progression):
     count, first, step = progression
     stop = first + count * step
     return notation(first, None if stop < 0 else stop, step)
+
+
+def text_answer(text):
+    """The answer of find_slice that tells this text."""
+    return [len(text), *text.encode("latin-1")]
+
+
+def as_range(progression):
+    count, first, step = progression
+    return range(first, first + count * step, step)
 
 
 def small_progressions(n):

@@ -4,16 +4,11 @@ import itertools
 import unittest
 
 from tests.calls import (
-    EMPTY, LIMIT, assign, canonical, get, intersect, members, notation_of, reverse, run, run_groups, set_length, slice_of,
-    small_progressions,
+    EMPTY, LIMIT, as_range, assign, canonical, get, intersect, members, notation_of, reverse, run, run_groups, set_length,
+    slice_of, small_progressions,
 )
 
 FAR = 10 ** 18 - 1
-
-
-def as_range(progression):
-    count, first, step = progression
-    return range(first, first + count * step, step)
 
 
 def shared(p, q):

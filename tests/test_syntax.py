@@ -1,14 +1,13 @@
 """The notation of a slice: what is read, and the one syntax error of every other text.
 
-No call answers the place of an error yet, so the place is asked of the reader itself.
+check_syntax tells code and place of the error, assign and slice the code alone.
 """
 
 import itertools
 import re
 import unittest
 
-from cutnotation.syntax import read_slice
-from tests.calls import LIMIT, assign, get, run, run_groups, set_length, slice_of
+from tests.calls import LIMIT, assign, check_syntax, get, get_all, run, run_groups, set_length, slice_of
 
 INTEGERS = ("", "n", "-n")
 SLICES = {one + ":" + two + three for one in INTEGERS for two in INTEGERS for three in ["", ":", ":n", ":-n"]}
@@ -40,18 +39,18 @@ def expected_of_tokens(found, length):
 
 
 def place(text):
-    reading = read_slice(list(text.encode("latin-1")))
-    return (reading.code, reading.place)
+    return tuple(run(check_syntax(text))[0])
 
 
-def codes(texts):
-    """The first number of the answer to assign, negative for an error, for each text."""
-    return [answer[0] for (answer,) in run_groups([set_length(10)], [[assign(0, text)] for text in texts])]
+def answers_to(texts):
+    """The answer to check_syntax, and the first number of the answer to assign, for each text."""
+    given = run_groups([set_length(10)], [[check_syntax(text), assign(0, text)] for text in texts])
+    return [(tuple(checked), assigned[0]) for checked, assigned in given]
 
 
 class ErrorCase(unittest.TestCase):
     def hold(self, text, code, at):
-        """The reader tells code and place; assign and slice tell the code and change nothing."""
+        """check_syntax tells code and place; assign and slice tell the code and change nothing."""
         with self.subTest(text=text):
             self.assertEqual(place(text), (code, at))
             self.assertEqual(expected(text.encode("latin-1")), (code, at))
@@ -260,10 +259,8 @@ class ZeroStep(ErrorCase):
 class ManyTexts(unittest.TestCase):
     def hold_all(self, texts):
         readings = [expected(text) for text in texts]
-        for text, wanted in zip(texts, readings):
-            reading = read_slice(list(text))
-            self.assertEqual((reading.code, reading.place), wanted, text)
-        for text, wanted, code in zip(texts, readings, codes(texts)):
+        for text, wanted, (checked, code) in zip(texts, readings, answers_to(texts)):
+            self.assertEqual(checked, wanted, text)
             self.assertEqual(min(code, 0), -wanted[0], text)
 
     def test_all_short_texts(self):
@@ -276,6 +273,30 @@ class ManyTexts(unittest.TestCase):
 
     def test_pairs_of_bytes(self):
         self.hold_all([bytes(pair) for pair in itertools.product(range(256), b"0:-.a #Z\xff\x00", repeat=1)])
+
+    def test_long_texts(self):
+        for length in (198, 199, 200, 201, 202, 299, 300):
+            self.hold_all([begin + b" " * (length - len(begin) - len(end)) + end for begin, end in itertools.product(
+                [b"", b":", b"1:", b"::", b"::0", b"#", b"x", b"-", b"..", b"1 2"],
+                [b"", b":", b"0", b"-0", b"7", b".", b"...", b"1" * 19, b"a" * 13, b"A", b"\n", b"\xff"])])
+
+
+class CheckSyntax(unittest.TestCase):
+    def test_never_negative(self):
+        given = run(*[check_syntax(text) for text in ("x" * 201, "1:.", "1", "::0", ":", "1:2:3", "", "0" * 300)])
+        self.assertEqual(given, [[1, 200], [2, 2], [4, 1], [5, 2], [0, 0], [0, 0], [4, 0], [1, 200]])
+
+    def test_the_object_stays_as_it_is(self):
+        setup = [set_length(20), assign(1, "::-3"), assign(2, "4:4"), assign(3, "7:8")]
+        before = run(*setup, *get_all(), assign(7, ":"))
+        for text in ("", ":", "3:4", "::-2", "::0", "#", "x", " " * 201):
+            given = run(*setup, check_syntax(text), *get_all(), assign(7, ":"))
+            self.assertEqual(given[:4] + given[5:], before, text)
+
+    def test_the_length_does_not_matter(self):
+        for text, answer in (("5:9:2", [0, 0]), ("-5::-1", [0, 0]), ("::-0", [5, 2]), ("999999999999999999:", [0, 0])):
+            given = run(check_syntax(text), set_length(0), check_syntax(text), set_length(LIMIT), check_syntax(text))
+            self.assertEqual(given, [answer, [0], answer, [LIMIT], answer])
 
 
 if __name__ == "__main__":
